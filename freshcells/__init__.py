@@ -1,0 +1,1 @@
+"""Freshcells: a book of program cells, and the fewest runs that mend it."""
