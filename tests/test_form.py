@@ -15,6 +15,16 @@ INTERFACE = {
     "sums": ("is_name", "read_sum", "sum_text", "value_in"),
     "cells": ("Cell", "may_read", "may_set"),
     "runs": ("run_in",),
+    "books": ("Book", "played"),
+    "tops": ("top", "top_room", "is_fresh", "stale", "reason"),
+    "plans": ("mends", "fewest", "fence_of"),
+    "leavings": ("leavings", "shown_by"),
+}
+
+METHODS = {
+    "Cell": ("__init__", "__len__", "__eq__", "__str__", "__repr__"),
+    "Book": ("__init__", "__len__", "put", "edit", "move", "strike", "empty", "run", "undo", "redo", "trial", "order",
+             "wording", "outcome", "last", "room", "setter", "sources", "deeds"),
 }
 
 BUILTINS = ("len range enumerate zip min max sum abs sorted reversed int str bool list tuple dict set isinstance ord "
@@ -46,6 +56,21 @@ class FormTest(unittest.TestCase):
             defined = [node.name for node in tree.body if isinstance(node, (ast.FunctionDef, ast.ClassDef))]
             for name in names:
                 self.assertEqual(defined.count(name), 1, name)
+
+    def test_methods_stand_in_their_classes(self):
+        found = {node.name: node for _, _, tree in files() for node in nodes(tree, ast.ClassDef)}
+        for name, methods in METHODS.items():
+            defined = [node.name for node in found[name].body if isinstance(node, ast.FunctionDef)]
+            for method in methods:
+                self.assertEqual(defined.count(method), 1, method)
+
+    def test_no_name_is_a_method_and_an_attribute(self):
+        methods, attributes = set(), set()
+        for _, _, tree in files():
+            for node in nodes(tree, ast.ClassDef):
+                methods |= {inner.name for inner in node.body if isinstance(inner, ast.FunctionDef)}
+            attributes |= {node.attr for node in nodes(tree, ast.Attribute) if isinstance(node.ctx, ast.Store)}
+        self.assertEqual(methods & attributes, set())
 
     def test_folder_holds_source_files_alone(self):
         for path in PACKAGE.iterdir():
@@ -82,9 +107,10 @@ class FormTest(unittest.TestCase):
             self.assertEqual(nodes(tree, *barred), [], name)
             own = [node.name for node in nodes(tree, ast.FunctionDef, ast.ClassDef)]
             taken = [item.name for node in nodes(tree, ast.ImportFrom) for item in node.names]
+            handed = [node.arg for node in nodes(tree, ast.arg)]
             for node in nodes(tree, ast.Call):
                 if isinstance(node.func, ast.Name):
-                    self.assertIn(node.func.id, BUILTINS + own + taken, name)
+                    self.assertIn(node.func.id, BUILTINS + own + taken + handed, name)
 
     def test_no_warning(self):
         with warnings.catch_warnings():
