@@ -20,19 +20,41 @@ def is_left(book, name):
     return record.number not in book.order() or record.ran.text != book.wording(record.number)
 
 
-def shown_by(book, name, *, most=4):
-    """Tell a shortest row of at most so many runs that shows a name of the room, or None."""
-    room = book.room()
+def check_name(book, name):
+    """Refuse any thing that is no name of the room."""
     # The refusal is made of a text, which what was handed in may not be.
     if not isinstance(name, str):
         raise NoName("no text")
-    if name not in room:
+    if name not in book.room():
         raise NoName(name)
+
+
+def without(room, name):
+    """Tell a room in which a name doesn't stand."""
+    return {other: room[other] for other in room if other != name}
+
+
+def shows(book, name, row):
+    """Tell whether a row of cells, of one run or more, shows a name of the room."""
+    check_name(book, name)
+    one = book.room()
+    two = without(one, name)
+    shown = False
+    for number in row:
+        program = book.program_of(number)
+        told, _, _, one = run_in(program, one)
+        other, _, _, two = run_in(program, two)
+        shown = told != other
+    return shown
+
+
+def shown_by(book, name, *, most=4):
+    """Tell a shortest row of at most so many runs that shows a name of the room, or None."""
+    check_name(book, name)
     if not is_whole(most) or not 1 <= most <= MOST_RUNS:
         raise NoPlace(f"a row has 1 to {MOST_RUNS} runs")
     check_few(book, MOST_CELLS)
-    lacking = {other: room[other] for other in room if other != name}
-    return showing_row(book, room, lacking, most)
+    return showing_row(book, book.room(), without(book.room(), name), most)
 
 
 def showing_row(book, room, lacking, most):

@@ -4,13 +4,14 @@ from freshcells.runs import run_in
 
 
 class Record:
-    """What a book keeps of a run: the number of its cell, what it ran by, and what came of it."""
+    """What a book keeps of a run: the number of its cell, what it ran by, what came of it, what it set or dropped."""
 
     def __init__(self, number, ran, told, setters):
         self.number = number
         self.ran = ran
         self.result = told[0]
         self.reads = told[1]
+        self.touched = tuple([name for name, _ in told[2]])
         self.origins = tuple([(name, setters.get(name)) for name, _ in told[1]])
 
 
@@ -77,10 +78,11 @@ def with_run(state, cell):
     other = copied(state)
     program = state.programs[cell]
     told = run_in(program, state.standing)
-    other.records.append(Record(cell, program, told, state.setters))
+    record = Record(cell, program, told, state.setters)
+    other.records.append(record)
     run = len(other.records)
     other.lasts[cell] = run
-    for name, _ in told[2]:
+    for name in record.touched:
         other.setters[name] = run
     other.standing = told[3]
     return other

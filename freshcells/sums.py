@@ -23,10 +23,10 @@ def is_name(thing):
     return thing not in WORDS and all([sign in LETTERS for sign in thing])
 
 
-def is_number_word(word):
-    """Tell whether a text is a whole number from 0 to 999 as an atom writes it."""
+def is_number_word(word, most=MOST_FIGURES):
+    """Tell whether a text is a whole number as by 10, of at most so many figures; by itself as an atom writes it."""
     # The length is looked at first, as a longer row of figures may be too long for int.
-    if not 1 <= len(word) <= MOST_FIGURES or not all([sign in FIGURES for sign in word]):
+    if not 1 <= len(word) <= most or not all([sign in FIGURES for sign in word]):
         return False
     return word == "0" or word[0] != "0"
 

@@ -1,6 +1,6 @@
 """A book by the plainest means: worked out from its deeds alone, each question by trying all there is."""
 
-from itertools import product
+from itertools import permutations, product
 
 from freshcells.cells import Cell
 from freshcells.runs import run_in
@@ -11,7 +11,7 @@ class Model:
 
     def __init__(self, deeds):
         self.order, self.texts, self.outcomes, self.lasts = [], {}, {}, {}
-        self.room, self.setters, self.runs, self.put = {}, {}, [], 0
+        self.room, self.setters, self.runs, self.touched, self.put = {}, {}, [], [], 0
         for deed in deeds:
             getattr(self, "do_" + deed[0])(*deed[1:])
 
@@ -34,6 +34,7 @@ class Model:
         outcome, reads, sets, self.room = run_in(Cell(self.texts[cell]), self.room)
         sources = tuple((name, self.setters.get(name)) for name, _ in reads)
         self.runs.append((cell, self.texts[cell], reads, sources))
+        self.touched.append([name for name, _ in sets])
         self.outcomes[cell], self.lasts[cell] = outcome, len(self.runs)
         self.setters.update({name: len(self.runs) for name, _ in sets})
 
@@ -116,3 +117,53 @@ class Model:
             if any(self.shows(name, row) for row in product(self.order, repeat=many)):
                 return many
         return None
+
+    def unready(self):
+        """Tell the first cell whose last run wasn't by the text that it has, or None."""
+        for cell in self.order:
+            run = self.lasts[cell]
+            if run is None or self.runs[run - 1][1] != self.texts[cell]:
+                return cell
+        return None
+
+    def touches(self, cell, name):
+        """Tell whether a cell's last run set or dropped a name."""
+        return name in self.touched[self.lasts[cell] - 1]
+
+    def reads(self):
+        """Tell (cell, name, source) of each read of each cell's last run."""
+        return [(cell, name, source) for cell in self.order for name, source in self.runs[self.lasts[cell] - 1][3]]
+
+    def leads(self, row):
+        """Tell whether a row of all cells leads each read to its source."""
+        for cell, name, source in self.reads():
+            ahead = [other for other in row[:row.index(cell)] if self.touches(other, name)]
+            if (self.lasts[ahead[-1]] if ahead else None) != source:
+                return False
+        return True
+
+    def orders(self):
+        """Tell all orders by which the book stands."""
+        return [list(row) for row in permutations(self.order) if self.leads(row)]
+
+    def owner(self, source):
+        """Tell the cell that stands of which a run is the last one, or None."""
+        return ([cell for cell in self.order if self.lasts[cell] == source] + [None])[0]
+
+    def edges(self):
+        """Tell all edges, sorted, each once."""
+        none = {(cell, other, name) for cell, name, source in self.reads() for other in self.order
+                if source is None and other != cell and self.touches(other, name)}
+        return sorted(none | {(self.owner(source), cell, name) for cell, name, source in self.reads()
+                              if source is not None and self.owner(source) is not None})
+
+    def choices(self):
+        """Tell all choices, sorted, each once."""
+        return sorted({(other, self.owner(source), cell, name) for cell, name, source in self.reads()
+                       for other in self.order if source is not None and self.owner(source) is not None
+                       and other not in (cell, self.owner(source)) and self.touches(other, name)})
+
+    def gone(self):
+        """Tell the reads, sorted, whose source is no cell's last run."""
+        return sorted({(cell, name) for cell, name, source in self.reads()
+                       if source is not None and self.owner(source) is None})

@@ -5,18 +5,10 @@ import unittest
 from freshcells.books import Book
 from freshcells.errors import BookError, NoCell, NoPlace, NoRow, TooMany
 from model import Model
-from things import NAMES, all_of, do_drawn, drawn_book, no_cells, no_places, no_runs, no_texts, told_of
+from things import NAMES, all_of, book_of, do_drawn, drawn_book, no_cells, no_places, no_runs, no_texts, told_of
 from random import Random
 
 LACK_A = ((), ("lack", "a"))
-
-
-def book_of(*texts):
-    """Tell a book with these cells."""
-    book = Book()
-    for text in texts:
-        book.put(text)
-    return book
 
 
 class BookCase(unittest.TestCase):

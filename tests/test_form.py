@@ -19,12 +19,17 @@ INTERFACE = {
     "tops": ("top", "top_room", "is_fresh", "stale", "reason"),
     "plans": ("mends", "fewest", "fence_of"),
     "leavings": ("leavings", "shown_by"),
+    "orders": ("edges_of", "choices_of", "gone_of", "stands"),
+    "looker": ("holds", "paper_of"),
+    "texts": ("book_text", "read_book"),
+    "desk": ("Desk",),
 }
 
 METHODS = {
     "Cell": ("__init__", "__len__", "__eq__", "__str__", "__repr__"),
     "Book": ("__init__", "__len__", "put", "edit", "move", "strike", "empty", "run", "undo", "redo", "trial", "order",
              "wording", "outcome", "last", "room", "setter", "sources", "deeds"),
+    "Desk": ("__init__", "say"),
 }
 
 BUILTINS = ("len range enumerate zip min max sum abs sorted reversed int str bool list tuple dict set isinstance ord "

@@ -7,15 +7,7 @@ from freshcells.errors import BookError, NoCell, TooMany
 from freshcells.plans import fence_of, fewest, mends
 from freshcells.tops import stale, top
 from model import Model
-from things import all_of, drawn_book, no_cells, no_texts
-
-
-def book_of(*texts):
-    """Tell a book with these cells."""
-    book = Book()
-    for text in texts:
-        book.put(text)
-    return book
+from things import all_of, book_of, drawn_book, no_cells, no_texts
 
 
 def run_all(book, *row):

@@ -6,17 +6,9 @@ from freshcells.books import Book, played
 from freshcells.errors import NoCell
 from freshcells.tops import is_fresh, reason, stale, top, top_room
 from model import Model
-from things import all_of, drawn_book, no_cells
+from things import all_of, book_of, drawn_book, no_cells
 
 LACK_A = ((), ("lack", "a"))
-
-
-def book_of(*texts):
-    """Tell a book with these cells."""
-    book = Book()
-    for text in texts:
-        book.put(text)
-    return book
 
 
 def run_all(book, *row):

@@ -11,6 +11,21 @@ from freshcells.tops import reason, stale, top, top_room
 NAMES = ("a", "b", "c", "ab", "abcd")
 
 
+def book_of(*texts):
+    """Tell a book with these cells."""
+    book = Book()
+    for text in texts:
+        book.put(text)
+    return book
+
+
+def run_all(book, *row):
+    """Run cells in turn, empty the room at each 0; tell the book."""
+    for cell in row:
+        book.run(cell) if cell else book.empty()
+    return book
+
+
 def no_texts():
     """Tell things of each kind that are no texts, new ones each time."""
     deep = ()
@@ -131,4 +146,26 @@ def drawn_book(seed, deeds, most):
     book = Book()
     for _ in range(deeds):
         do_drawn(book, draw, most)
+    return book
+
+
+def ready_book(seed, many, names):
+    """Tell a book of so many cells that read and set some of the names, each run by the text that it has, behind
+    emptying now and then; many of them read at last what doesn't stand."""
+    draw, book = random.Random(seed), Book()
+    often = draw.choice((2, 3, 4))
+    for _ in range(many):
+        rows = [f"{name} = 1" for name in draw.sample(names, draw.randrange(min(3, len(names)) + 1))]
+        for _ in range(draw.randrange(3)):
+            name = draw.choice(names)
+            rows.insert(draw.randrange(len(rows) + 1), draw.choice((f"show {name}", f"{name} = {name}", f"drop {name}")))
+        book.put("\n".join(rows + [f"show {draw.choice(names)}"]))
+    for cell in draw.sample(book.order(), many):
+        if draw.randrange(often) == 0:
+            book.empty()
+        book.run(cell)
+    if draw.randrange(6) == 0:
+        book.run(draw.choice(book.order()))
+    if draw.randrange(6) == 0:
+        book.strike(draw.choice(book.order()))
     return book
