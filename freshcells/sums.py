@@ -122,42 +122,25 @@ def names_in(some):
     return [atom for atom in atoms if isinstance(atom, str)]
 
 
-def within_limit(number):
-    """Tell the number and no fault, or None and the fault where it is too great."""
-    if -LIMIT <= number <= LIMIT:
-        return number, None
-    return None, ("great",)
-
-
-def atom_in(atom, room, names):
-    """Tell an atom's number and no fault, or None and the fault; a name that is read goes to names."""
-    if isinstance(atom, int):
-        return atom, None
-    names.append(atom)
-    if atom not in room:
-        return None, ("lack", atom)
-    return room[atom], None
-
-
-def joined(part, mark, number):
-    """Tell what a product becomes by one more number and no fault, or None and the fault."""
-    if mark == "*":
-        return within_limit(part * number)
-    if number == 0:
-        return None, ("nought",)
-    return within_limit(part // number)
-
-
 def product_in(first, pairs, room, names):
     """Tell a product's value and no fault, or None and the fault; the names that are read go to names."""
     part = 1
     # The first atom is the product of 1 and itself: it may be too great as well.
     for mark, atom in (("*", first), *pairs):
-        number, fault = atom_in(atom, room, names)
-        if fault is None:
-            part, fault = joined(part, mark, number)
-        if fault is not None:
-            return None, fault
+        number = atom
+        if isinstance(atom, str):
+            names.append(atom)
+            if atom not in room:
+                return None, ("lack", atom)
+            number = room[atom]
+        if mark == "*":
+            part = part * number
+        elif number == 0:
+            return None, ("nought",)
+        else:
+            part = part // number
+        if not -LIMIT <= part <= LIMIT:
+            return None, ("great",)
     return part, None
 
 
@@ -167,10 +150,11 @@ def worked_out(some, room):
     total = 0
     for sign, first, pairs in some:
         part, fault = product_in(first, pairs, room, names)
-        if fault is None:
-            total, fault = within_limit(total + sign * part)
         if fault is not None:
             return None, fault, names
+        total = total + sign * part
+        if not -LIMIT <= total <= LIMIT:
+            return None, ("great",), names
     return total, None, names
 
 

@@ -1,5 +1,6 @@
 """Leavings and the rows that show them: points 17 and 18."""
 
+import time
 import unittest
 from random import Random
 
@@ -28,6 +29,21 @@ def waiting_book(seed):
         book.put(draw.choice((f"if {one} // {draw.randrange(1, 4)}: show {two}", f"{one} = {one} + 1",
                               f"if {one}: {two} = {three}", f"if {one}: {two} = 1", f"{one} = 2")))
     book.run(draw.choice(book.order()))
+    return book
+
+
+def crossing_book(seed):
+    """Tell a drawn book of four cells, one of which reads `a`, drops it and reads it again: what differs behind it is
+    what it has set on the way."""
+    draw = Random(seed)
+    book = book_of("a = 7\nb = 0\nc = 1")
+    book.strike(1)
+    book.put(draw.choice(("b = a\ndrop a\nshow a", "if 1: c = a - 6\ndrop a\nb = a", "drop b\nif a: b = 3\ndrop a\nshow a")))
+    for _ in range(3):
+        rows = [draw.choice(("drop c", "drop b", "c = b", "b = c", "c = 1", "b = b - 1", "if b: c = 0", "show c", "d = b",
+                             "if b // 3: show 1", "if d // 5: show 2", "if c: drop b", "if 0: show a", "a = 1"))
+                for _ in range(draw.randrange(1, 3))]
+        book.put("\n".join(rows), place=draw.randrange(len(book) + 1))
     return book
 
 
@@ -245,10 +261,10 @@ class ShownByTest(unittest.TestCase):
 
     def test_drawn_books_against_the_model(self):
         found = {}
-        for seed in range(300):
-            book = drawn_book(seed, 25, 3) if seed % 2 else waiting_book(seed)
+        for seed in range(360):
+            book = (waiting_book(seed), drawn_book(seed, 25, 3), crossing_book(seed))[seed % 3]
             ahead, model = all_of(book), Model(book.deeds())
-            for name in model.room:
+            for name in ("a",) if seed % 3 == 2 else model.room:
                 many = model.shown_many(name, 4)
                 for most in (1, 2, 3, 4):
                     self.check(book, name, many if many is not None and many <= most else None, most)
@@ -256,6 +272,60 @@ class ShownByTest(unittest.TestCase):
             self.assertEqual(all_of(book), ahead)
         for many in (None, 1, 2, 3):
             self.assertGreater(found.get(many, 0), 1, found)
+
+    def test_a_read_behind_dropping_lacks_either_way(self):
+        # Without `a` the first of these ends where it reads it, with it where it reads it again: both lack `a`. What
+        # differs is what it has set on the way.
+        book = book_of("a = 1\nb = 0", "if 1: b = a\ndrop a\nshow a", "show b", "if b: show 3")
+        book.strike(1)
+        book.run(book.put("a = 1\nb = 0"))
+        self.assertEqual(shown_by(book, "a"), [2, 3])
+        book.strike(3)
+        self.assertEqual(shown_by(book, "a"), [2, 4])
+        self.check(book, "a", None, 1)
+
+    def test_what_is_dropped_is_dropped_in_both_rooms(self):
+        book = book_of("a = 1\nb = 0\nc = 1")
+        book.strike(1)
+        for text in ("if 1: b = a\ndrop a\nshow a", "drop c", "d = b\nshow c"):
+            book.put(text)
+        self.check(book, "a", None)
+
+    def waiting_for_none(self, *texts):
+        """Tell a book of five cells that never ran, behind one that is gone and set these names."""
+        book = book_of("a = 5\nb = 0\nc = 0\nxy = 0")
+        book.strike(1)
+        for text in texts:
+            book.put(text)
+        return book
+
+    def check_soon(self, book, told, seconds):
+        """See that three hundred questions for names and their rows end in so many seconds."""
+        start = time.process_time()
+        for _ in range(300 // len(told)):
+            for name, row in told.items():
+                self.assertEqual(shown_by(book, name), row)
+        self.assertLess(time.process_time() - start, seconds)
+
+    def test_where_no_row_shows_a_name_it_is_told_soon(self):
+        text = "b = b + c\nc = c + 1\nxy = b - c\nb = c\nc = xy\nshow b"
+        told = {"a": None, "xy": None, "b": [2], "c": [2]}
+        self.check_soon(self.waiting_for_none(*[text] * 5), told, 2)
+        self.check_soon(self.waiting_for_none(*[text.replace("1", str(many)) for many in range(1, 6)]), told, 2)
+        self.check_soon(self.waiting_for_none(*[text.replace("show b", "if b // 999 // 99: show a")] * 5), {"a": None}, 2)
+
+    def test_where_only_a_long_row_shows_a_name_it_is_told_soon(self):
+        book = self.waiting_for_none("b = b + 1", "c = c + 1", "xy = xy + 1", "b = b - 1", "if b * c * xy: show a")
+        self.check_soon(book, {"a": [2, 3, 4, 6]}, 2)
+        book = self.waiting_for_none("b = b + 1", "c = b * 2", "xy = c // 2", "b = 0 - b", "if xy // 2: show a")
+        self.check(book, "a", None)
+        self.check_soon(book, {"a": None}, 2)
+
+    def test_pairs_of_rooms_that_came_ahead_are_not_lost(self):
+        # Rows come back to rooms that stood already, on a longer way.
+        book = self.waiting_for_none("b = 1 - b", "if b: c = 1 - c", "if c: xy = 1", "show 1", "if xy: show a")
+        self.assertEqual(shown_by(book, "a"), [2, 3, 4, 6])
+        self.check(book, "a", None, 3)
 
     def test_great_books_end_soon(self):
         long_row = "if a * b // 3 + c * a - b * 2 + 1: "
